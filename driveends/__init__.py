@@ -1,0 +1,1 @@
+"""Linear diagrams without directions: their behaviours, driving sets and runs."""

@@ -1,0 +1,1 @@
+"""Numbers, vectors and matrices modulo a prime."""

@@ -1,0 +1,1 @@
+"""Spaces of vectors modulo a prime."""
