@@ -3,6 +3,12 @@
 import copy
 from itertools import product
 
+# Values that are nothing that a function of the package asks for, but for a few that the tests leave out.
+ODD = (
+    None, True, False, -1, 10 ** 40, "", "5", "A", "a\n~", (), ((),), (None,), (True,), [], ["a"], {}, {"a": 1}, {0: 0},
+    (("a",),), [[[0]]], (((((((((0,),),),),),),),),),
+)
+
 
 def all_vectors(modulus, width):
     """All vectors of this width, ascending."""
@@ -78,6 +84,142 @@ def scrambled(modulus, width, many, seed=1):
 def unit(width, at):
     """The vector that is 1 at one position."""
     return tuple(int(k == at) for k in range(width))
+
+
+class Numbers:
+    """Numbers without a plain pattern, the same ones for the same seed."""
+
+    def __init__(self, seed):
+        self.state = seed
+
+    def below(self, limit):
+        """A number from 0 to limit - 1."""
+        self.state = (self.state * 1103515245 + 12345) % 2147483648
+        return (self.state >> 12) % limit
+
+    def one_of(self, choices):
+        """One of some values."""
+        return choices[self.below(len(choices))]
+
+    def some_of(self, choices, many):
+        """So many values, each any one of these."""
+        return [self.one_of(choices) for _ in range(many)]
+
+    def record(self, modulus, width, length):
+        """A record."""
+        return tuple(tuple(self.below(modulus) for _ in range(width)) for _ in range(length))
+
+
+def claims_of(text):
+    """What the text of a part says: pairs of dicts, now and one step before, from lines to factors."""
+    kind, *words = text.split(" ")
+    sums = []
+    if kind == "Sum":
+        sums = [([(words[-1], 1)] + [(word, -1) for word in words[:-1]], [])]
+    elif kind == "Times":
+        sums = [([(words[2], 1), (words[1], -int(words[0]))], [])]
+    elif kind == "Mix":
+        pairs = [word.split("=") for word in words[1:]]
+        sums = [([(words[0], 1)] + [(line, -int(factor)) for line, factor in pairs], [])]
+    elif kind == "Delay":
+        sums = [([(words[1], 1)], [(words[0], -1)])]
+    elif kind == "Same":
+        sums = [([(word, 1), (words[0], -1)], []) for word in words[1:]]
+    found = []
+    for both in sums:
+        tables = ({}, {})
+        for table, terms in zip(tables, both):
+            for line, factor in terms:
+                table[line] = table.get(line, 0) + factor
+        found.append(tables)
+    return found
+
+
+class Wires:
+    """A diagram, read from its text, with all rows that fit its lines, found by linear equations."""
+
+    def __init__(self, text):
+        head, _, body = text.partition(":")
+        before, _, behind = body.partition("->")
+        texts = [one for one in before.strip().split(", ") if one]
+        self.modulus = int(head)
+        self.ends = tuple(behind.split())
+        self.claims = [claim for one in texts for claim in claims_of(one)]
+        self.delays = len([one for one in texts if one.startswith("Delay")])
+        self.lines = sorted({line for now, before in self.claims for line in (*now, *before)} | set(self.ends) | {
+            word.split("=")[0] for one in texts for word in one.split(" ")[1:] if word[0].isalpha()
+        })
+
+    def rows(self, length, finite):
+        """The span of the records of this length that are beginnings, or finite, as one long vector each."""
+        first, last = -self.delays, length + self.delays
+        places = [(time, line) for time in range(first, last) for line in self.lines]
+        places = [place for place in places if not self.is_silent(place, length, finite)]
+        at = {place: k for k, place in enumerate(places)}
+        equations = []
+        for time in range(first, last):
+            for now, before in self.claims:
+                row = [0] * len(places)
+                for shift, table in ((0, now), (1, before)):
+                    for line, factor in table.items():
+                        if (time - shift, line) in at:
+                            row[at[time - shift, line]] += factor
+                equations.append(row)
+        shown = [at.get((time, end)) for time in range(length) for end in self.ends]
+        solutions = kernel(self.modulus, len(places), equations)
+        return [tuple(0 if k is None else row[k] for k in shown) for row in solutions]
+
+    def is_silent(self, place, length, finite):
+        """Whether the line is an end that must be 0 at this time."""
+        time, line = place
+        return line in self.ends and (time < 0 or finite and time >= length)
+
+    def records(self, length, finite=False):
+        """The set of all records of this length that are beginnings, or finite."""
+        width = len(self.ends)
+        found = span(self.modulus, width * length, echelon(self.modulus, self.rows(length, finite)))
+        return {tuple(row[k * width:(k + 1) * width] for k in range(length)) for row in found}
+
+
+def echelon(modulus, vectors):
+    """A basis of the span of some vectors, each with its first entry 1 and zeros there in the later ones."""
+    basis = []
+    left = [[entry % modulus for entry in vector] for vector in vectors]
+    while left := [vector for vector in left if any(vector)]:
+        pivot = min(next(k for k, entry in enumerate(vector) if entry) for vector in left)
+        chosen = next(vector for vector in left if vector[pivot])
+        unit_entry = pow(chosen[pivot], -1, modulus)
+        chosen = [entry * unit_entry % modulus for entry in chosen]
+        basis.append((pivot, chosen))
+        left = [
+            [(a - vector[pivot] * b) % modulus for a, b in zip(vector, chosen)] if vector[pivot] else vector for vector in left
+        ]
+    return [tuple(vector) for _, vector in basis]
+
+
+def kernel(modulus, width, equations):
+    """A basis of the vectors whose dot product with each equation is 0."""
+    rows = [list(row) for row in echelon(modulus, equations)]
+    pivots = [next(k for k, entry in enumerate(row) if entry) for row in rows]
+    for k in range(len(rows) - 1, -1, -1):
+        for j in range(k):
+            factor = rows[j][pivots[k]]
+            if factor:
+                rows[j] = [(a - factor * b) % modulus for a, b in zip(rows[j], rows[k])]
+    free = [at for at in range(width) if at not in pivots]
+    found = []
+    for at in free:
+        vector = [0] * width
+        vector[at] = 1
+        for row, pivot in zip(rows, pivots):
+            vector[pivot] = -row[at] % modulus
+        found.append(tuple(vector))
+    return found
+
+
+def all_records(modulus, width, length):
+    """All records of this length, ascending."""
+    return list(product(all_vectors(modulus, width), repeat=length))
 
 
 def caught(function, *arguments, **keywords):

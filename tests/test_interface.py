@@ -20,9 +20,42 @@ SIGNATURES = {
         "section(modulus, width, vectors, columns)", "is_column_basis(modulus, width, vectors, columns)",
         "column_bases(modulus, width, vectors)",
     ),
+    "driveends.diagrams.diagrams": ("equations(diagram)",),
+}
+# For each class its methods, its class methods, its properties, and its class values; each stands in its own body.
+PART = (("renamed(self, **names)", "renamed_by(self, names)", "__str__(self)", "__eq__(self, other)"), ("kind", "lines"))
+CLASSES = {
+    "driveends.diagrams.parts": {
+        "Part": ((), ("read(text)",), (), {}),
+        "Sum": (("__init__(self, *lines)", *PART[0]), ("of(lines)",), PART[1], {}),
+        "Times": (("__init__(self, number, before, after)", *PART[0]), (), PART[1], {}),
+        "Mix": (("__init__(self, target_line, **factors)", *PART[0]), ("of(target_line, pairs)",), PART[1], {}),
+        "Delay": (("__init__(self, before, after)", *PART[0]), (), PART[1], {}),
+        "Same": (("__init__(self, *lines)", *PART[0]), ("of(lines)",), PART[1], {}),
+        "Use": (("__init__(self, used_name, *lines)", *PART[0]), ("of(used_name, lines)",), PART[1], {}),
+    },
+    "driveends.diagrams.diagrams": {
+        "Diagram": (
+            ("__init__(self, modulus, *parts, ends=())", "__len__(self)", "__str__(self)", "__eq__(self, other)",
+             "renamed(self, **names)", "renamed_by(self, names)", "with_part(self, part)", "without_part(self, index)",
+             "parts_at(self, line)"),
+            ("of(modulus, parts, ends)", "read(text)"),
+            ("modulus", "parts", "ends", "lines", "delays", "is_plain"),
+            {"MAX_PARTS": 40, "MAX_ENDS": 8, "MAX_LINES": 60, "MAX_DELAYS": 12},
+        ),
+    },
+    "driveends.behaviours.behaviours": {
+        "Behaviour": (
+            ("__len__(self)", "__str__(self)", "__eq__(self, other)", "__contains__(self, value)", "begins(self, record)",
+             "first_impossible(self, record)", "has(self, record)"),
+            ("of(diagram)", "spanned(modulus, ends, records)", "whole(modulus, ends)", "silent(modulus, ends)"),
+            ("modulus", "ends", "rank", "depth", "first_space"),
+            {"MAX_ENDS": 8, "MAX_DEPTH": 24, "MAX_SPAN": 48, "MAX_LENGTH": 200},
+        ),
+    },
 }
 CONSTANTS = {"driveends.numbers.numbers": {"MAX_MODULUS": 97, "MAX_WIDTH": 100, "MAX_VECTORS": 100}}
-GENERATORS = ("column_bases",)
+GENERATORS = ("column_bases", "parts_at")
 
 
 class InterfaceTests(unittest.TestCase):
@@ -36,6 +69,31 @@ class InterfaceTests(unittest.TestCase):
                 self.assertEqual(name + str(inspect.signature(function)), signature)
                 self.assertEqual(function.__module__, place)
                 self.assertEqual(inspect.isgeneratorfunction(function), name in GENERATORS)
+
+    def test_classes(self):
+        for place, classes in CLASSES.items():
+            module = importlib.import_module(place)
+            for name, (methods, made, properties, values) in classes.items():
+                holder = getattr(module, name)
+                self.assertTrue(inspect.isclass(holder), name)
+                self.assertEqual((holder.__module__, holder.__name__), (place, name))
+                for signature in methods:
+                    method = vars(holder)[signature.partition("(")[0]]
+                    self.assertEqual(method.__name__ + str(inspect.signature(method)), signature, name)
+                    self.assertEqual(inspect.isgeneratorfunction(method), method.__name__ in GENERATORS)
+                for signature in made:
+                    one = signature.partition("(")[0]
+                    self.assertIsInstance(vars(holder)[one], classmethod)
+                    self.assertEqual(one + str(inspect.signature(getattr(holder, one))), signature, name)
+                for one in properties:
+                    self.assertIsInstance(vars(holder)[one], property)
+                for one, value in values.items():
+                    self.assertEqual(vars(holder)[one], value)
+
+    def test_the_six_kinds_are_parts(self):
+        module = importlib.import_module("driveends.diagrams.parts")
+        for name in ("Sum", "Times", "Mix", "Delay", "Same", "Use"):
+            self.assertTrue(issubclass(getattr(module, name), module.Part))
 
     def test_constants(self):
         for place, constants in CONSTANTS.items():

@@ -1,0 +1,1 @@
+"""Behaviours and their comparisons."""

@@ -1,0 +1,1 @@
+"""Parts, diagrams and their records."""
