@@ -9,6 +9,19 @@ ODD = (
     (("a",),), [[[0]]], (((((((((0,),),),),),),),),),
 )
 
+# Small diagrams of many sorts.
+SPECIAL = (
+    # A delay that is seen a step later, rings that nothing drives, free lines, lines in no part, no ends, no parts.
+    "2: Delay a b, Sum b -> a", "3: Delay a b, Delay b a -> a", "2: Delay a b, Delay b c, Delay c a -> a b",
+    "2: Delay x y, Delay y x, Sum a x b -> a b", "3: Sum a b c -> a", "2: -> a b", "5: -> a", "3: Delay a b ->", "2: ->",
+    "2: Sum a, Delay a b -> b", "2: Delay a a -> a", "3: Delay a x, Delay b x -> a b", "2: Delay a x, Delay a y, Sum x y z -> a z",
+    "2: Delay a m, Delay m b -> a b", "3: Delay a m, Delay m b, Sum a b -> a", "2: Delay a m, Delay m b, Sum a m -> b",
+    "5: Mix b a=2 c=3, Delay b c -> a b", "3: Mix b a=1 c=2, Delay b c -> c a b", "2: Sum a x y, Delay y x -> a",
+    "2: Sum a x y, Delay y x, Sum b x z, Delay z x -> a b", "7: Times 0 a b, Delay b c -> a c", "2: Delay a b, Sum a b c -> c",
+    "2: Delay a b, Delay b c, Sum a b d, Sum b c e -> d e", "2: Delay a b, Sum a b d, Sum b a a e -> d e",
+    "3: Mix x a=1 y=2, Delay x y, Mix z x=1 y=1, Delay z b -> a b",
+)
+
 
 def all_vectors(modulus, width):
     """All vectors of this width, ascending."""
@@ -133,6 +146,42 @@ def claims_of(text):
                 table[line] = table.get(line, 0) + factor
         found.append(tables)
     return found
+
+
+def lengths_to_try(modulus, width, most, limit):
+    """The lengths up to a greatest one for which there are not too many records."""
+    return [length for length in range(most + 1) if modulus ** (width * length) <= limit]
+
+
+def some_text(some):
+    """The text of a small diagram without a plain pattern."""
+    modulus = some.one_of((2, 2, 2, 3, 3, 5))
+    letters = "abcdef"[:2 + some.below(5)]
+    parts = []
+    for _ in range(some.below(6)):
+        kind = some.one_of(("Sum", "Times", "Mix", "Delay", "Delay", "Delay", "Same"))
+        lines = some.some_of(letters, 1 + some.below(4))
+        if kind == "Delay" and len([part for part in parts if part[0] == "Delay"]) == 3:
+            continue
+        if kind == "Mix":
+            pairs = sorted((line, some.below(modulus)) for line in lines)
+            lines = [some.one_of(letters)] + [f"{line}={factor}" for line, factor in pairs]
+        elif kind in ("Times", "Delay"):
+            lines = [str(some.below(modulus))] * (kind == "Times") + some.some_of(letters, 2)
+        parts.append([kind] + lines)
+    ends = list(letters) + ["z"]
+    while ends and (len(ends) > 3 or some.below(3)):
+        ends.remove(some.one_of(ends))
+    if some.below(2):
+        ends.reverse()
+    words = [f"{modulus}:", ", ".join(" ".join(part) for part in parts), "->", " ".join(ends)]
+    return " ".join(word for word in words if word)
+
+
+def small_texts(many, seed):
+    """The texts of the special diagrams, and of so many others."""
+    some = Numbers(seed)
+    return list(SPECIAL) + [some_text(some) for _ in range(many)]
 
 
 class Wires:

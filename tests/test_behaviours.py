@@ -6,66 +6,21 @@ from itertools import permutations
 
 from driveends.behaviours.behaviours import Behaviour
 from driveends.diagrams.diagrams import Diagram
-from driveends.diagrams.parts import Delay, Mix, Same, Sum, Times, Use
+from driveends.diagrams.parts import Delay, Mix, Same, Sum, Use
 from driveends.errors import InvalidDiagram, InvalidEnds, InvalidModulus, InvalidRecord, TooLarge
 from tests.helper import (
-    ODD, Numbers, Wires, all_records, all_vectors, caught, combine, dimension, echelon, is_reduced_by_words, same, span, unit,
+    ODD, SPECIAL, Numbers, Wires, all_records, caught, combine, echelon, is_reduced_by_words, lengths_to_try, same, small_texts,
+    span, unit,
 )
 
 ADD = Diagram(5, Sum("a", "b", "c"), ends=("a", "b", "c"))
 LATE = Diagram(5, Delay("a", "b"), ends=("a", "b"))
 KEEP = Diagram(5, Sum("a", "c", "b"), Delay("b", "c"), ends=("a", "b"))
-SPECIAL = (
-    # A delay that is seen a step later, rings that nothing drives, free lines, lines in no part, no ends, no parts.
-    "2: Delay a b, Sum b -> a", "3: Delay a b, Delay b a -> a", "2: Delay a b, Delay b c, Delay c a -> a b",
-    "2: Delay x y, Delay y x, Sum a x b -> a b", "3: Sum a b c -> a", "2: -> a b", "5: -> a", "3: Delay a b ->", "2: ->",
-    "2: Sum a, Delay a b -> b", "2: Delay a a -> a", "3: Delay a x, Delay b x -> a b", "2: Delay a x, Delay a y, Sum x y z -> a z",
-    "2: Delay a m, Delay m b -> a b", "3: Delay a m, Delay m b, Sum a b -> a", "2: Delay a m, Delay m b, Sum a m -> b",
-    "5: Mix b a=2 c=3, Delay b c -> a b", "3: Mix b a=1 c=2, Delay b c -> c a b", "2: Sum a x y, Delay y x -> a",
-    "2: Sum a x y, Delay y x, Sum b x z, Delay z x -> a b", "7: Times 0 a b, Delay b c -> a c", "2: Delay a b, Sum a b c -> c",
-    "2: Delay a b, Delay b c, Sum a b d, Sum b c e -> d e", "2: Delay a b, Sum a b d, Sum b a a e -> d e",
-)
-SELDOM = ("3: Mix x a=1 y=2, Delay x y, Mix z x=1 y=1, Delay z b -> a b",)
-
-
-def some_diagram(some):
-    """A small diagram without a plain pattern."""
-    modulus = some.one_of((2, 2, 2, 3, 3, 5))
-    letters = "abcdef"[:2 + some.below(5)]
-    parts, delays = [], 0
-    for _ in range(some.below(6)):
-        kind = some.one_of(("Sum", "Times", "Mix", "Delay", "Delay", "Delay", "Same"))
-        lines = some.some_of(letters, 1 + some.below(4))
-        if kind == "Delay" and delays < 3:
-            delays += 1
-            parts.append(Delay(*some.some_of(letters, 2)))
-        elif kind == "Sum":
-            parts.append(Sum(*lines))
-        elif kind == "Times":
-            parts.append(Times(some.below(modulus), *some.some_of(letters, 2)))
-        elif kind == "Mix":
-            parts.append(Mix.of(some.one_of(letters), tuple((line, some.below(modulus)) for line in lines)))
-        elif kind == "Same":
-            parts.append(Same(*lines))
-    ends = list(letters) + ["z"]
-    while len(ends) > 3 or some.below(3):
-        if not ends:
-            break
-        ends.remove(some.one_of(ends))
-    if some.below(2):
-        ends.reverse()
-    return Diagram(modulus, *parts, ends=tuple(ends))
 
 
 def small_diagrams(many, seed):
-    """The special diagrams, and so many others."""
-    some = Numbers(seed)
-    return [Diagram.read(text) for text in SPECIAL + SELDOM] + [some_diagram(some) for _ in range(many)]
-
-
-def lengths_to_try(modulus, width, most, limit):
-    """The lengths up to a greatest one for which there are not too many records."""
-    return [length for length in range(most + 1) if modulus ** (width * length) <= limit]
+    """Diagrams that are special, and so many others."""
+    return [Diagram.read(text) for text in small_texts(many, seed)]
 
 
 def plus(modulus, one, other):

@@ -21,6 +21,20 @@ SIGNATURES = {
         "column_bases(modulus, width, vectors)",
     ),
     "driveends.diagrams.diagrams": ("equations(diagram)",),
+    "driveends.diagrams.records": (
+        "filling(diagram, record, *, finite=False)", "is_filling(diagram, record, value, *, finite=False)",
+        "is_bar(diagram, record, value, *, finite=False)", "moments(diagram, record, *lines, finite=False)",
+    ),
+    "driveends.behaviours.comparisons": (
+        "is_within(one, other)", "comparison(one, other)", "is_chain(*behaviours)", "separating(one, other)",
+        "common_steps(one, other)", "beginnings(behaviour, length)", "inclusion(one, other)", "is_inclusion(one, other, value)",
+    ),
+    "driveends.driving.driving": (
+        "drives(behaviour, ends)", "driving_sets(behaviour)", "why_not(behaviour, ends)",
+        "is_paper_against(behaviour, ends, value)", "at_once(behaviour, ends)", "exchanges(behaviour, ends, name)",
+        "led_ends(behaviour)", "leading_ends(behaviour)",
+    ),
+    "driveends.runs.runs": ("same_future(one, other)",),
 }
 # For each class its methods, its class methods, its properties, and its class values; each stands in its own body.
 PART = (("renamed(self, **names)", "renamed_by(self, names)", "__str__(self)", "__eq__(self, other)"), ("kind", "lines"))
@@ -53,9 +67,23 @@ CLASSES = {
             {"MAX_ENDS": 8, "MAX_DEPTH": 24, "MAX_SPAN": 48, "MAX_LENGTH": 200},
         ),
     },
+    "driveends.runs.runs": {
+        "Run": (
+            ("__init__(self, behaviour)", "__len__(self)", "__str__(self)", "__eq__(self, other)", "driven_by(self, ends)",
+             "back_to(self, count)", "step(self, **values)", "drive(self, values)", "expected(self, values)",
+             "push(self, *values)", "options(self)", "accepts(self, value)", "take(self, vector)", "rows(self)", "branch(self)",
+             "continued(self, behaviour)"),
+            ("replayed(behaviour, record)",),
+            ("behaviour", "record", "drivers", "steps"),
+            {"MAX_STEPS": 200},
+        ),
+    },
 }
-CONSTANTS = {"driveends.numbers.numbers": {"MAX_MODULUS": 97, "MAX_WIDTH": 100, "MAX_VECTORS": 100}}
-GENERATORS = ("column_bases", "parts_at")
+CONSTANTS = {
+    "driveends.numbers.numbers": {"MAX_MODULUS": 97, "MAX_WIDTH": 100, "MAX_VECTORS": 100},
+    "driveends.diagrams.records": {"MAX_MOMENTS": 30},
+}
+GENERATORS = ("column_bases", "parts_at", "moments", "beginnings", "driving_sets", "rows")
 
 
 class InterfaceTests(unittest.TestCase):

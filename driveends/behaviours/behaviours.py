@@ -1,12 +1,13 @@
 """Behaviours: what diagrams show at their ends."""
 
 from driveends.behaviours.bases import both_bases
-from driveends.behaviours.checks import checks_of, first_break, is_finite_record, is_record
+from driveends.behaviours.checks import checks_of, first_break, is_finite_record
 from driveends.behaviours.relations import bases_of
 from driveends.diagrams.diagrams import check_plain
 from driveends.diagrams.names import check_distinct_names
 from driveends.errors import InvalidBehaviour, InvalidRecord, TooLarge
 from driveends.numbers.numbers import check_modulus
+from driveends.numbers.records import check_record, is_record
 from driveends.spaces.elimination import reduced_rows
 
 
@@ -142,12 +143,6 @@ def check_many_ends(ends):
         raise TooLarge(Behaviour.MAX_ENDS)
 
 
-def check_record(modulus, width, record):
-    """Raise InvalidRecord if this is not a record for so many ends."""
-    if not is_record(modulus, width, record):
-        raise InvalidRecord(f"a record is a tuple of at most 200 vectors, here of length {width}")
-
-
 def check_records(modulus, width, records):
     """Raise InvalidRecord if this is not a tuple of records for so many ends."""
     if not isinstance(records, tuple):
@@ -160,3 +155,11 @@ def check_behaviour(behaviour):
     """Raise InvalidBehaviour if this is not a behaviour."""
     if not isinstance(behaviour, Behaviour):
         raise InvalidBehaviour("this is not a behaviour")
+
+
+def check_comparable(one, other):
+    """Raise InvalidBehaviour if these are not two behaviours with the same modulus and ends."""
+    check_behaviour(one)
+    check_behaviour(other)
+    if one.modulus != other.modulus or one.ends != other.ends:
+        raise InvalidBehaviour("the behaviours have different moduli or ends")

@@ -6,17 +6,6 @@ dot product 0 with it; ahead of a record and behind it there are zeros. The begi
 records that keep all checks at their own times, and the finite records keep them also later.
 """
 
-from driveends.numbers.numbers import are_numbers
-
-MAX_RECORD = 200
-
-
-def is_record(modulus, width, value):
-    """Whether the value is a record for so many ends, for a modulus that is known to be one."""
-    if not isinstance(value, tuple) or len(value) > MAX_RECORD:
-        return False
-    return all([are_numbers(modulus, vector) and len(vector) == width for vector in value])
-
 
 def checks_of(duals):
     """The checks that stem from these finite records of the dual."""

@@ -1,0 +1,1 @@
+"""Which ends drive the others."""
