@@ -1,5 +1,6 @@
 """[2.1] to [2.4]: driveends.spaces.spaces, results."""
 
+import time
 import unittest
 from itertools import combinations, islice, permutations
 from itertools import product as choices
@@ -286,6 +287,51 @@ class SpaceTests(unittest.TestCase):
         other = scrambled(97, 100, 60, seed=2)
         self.assertEqual(len(meet_of(97, 100, matrix, other)), 20)
         self.assertEqual(len(sum_of(97, 100, matrix[:30], other[:30])), 60)
+
+
+class LargerTests(unittest.TestCase):
+    """Sizes at which the vectors cannot be counted: what holds of dimensions and of common vectors."""
+
+    SIZES = ((2, 30, 9, 4), (7, 24, 6, 5), (97, 40, 11, 4), (97, 40, 15, 0), (97, 40, 3, 17), (5, 20, 10, 6), (3, 12, 8, 8), (97, 60, 40, 12))
+
+    def test_complements(self):
+        for modulus, width, many, more in self.SIZES:
+            vectors = scrambled(modulus, width, many, seed=many + 7)
+            vectors += vectors[:2] + scrambled(modulus, width, more, seed=3)
+            found = complement(modulus, width, vectors)
+            self.assertTrue(is_reduced(modulus, width, found))
+            self.assertEqual(len(found), width - len(reduced(modulus, width, vectors)))
+            self.assertTrue(all(dot(modulus, one, other) == 0 for one in found for other in vectors))
+            self.assertEqual(complement(modulus, width, found), reduced(modulus, width, vectors))
+
+    def test_meets(self):
+        for modulus, width, many, more in self.SIZES:
+            common = scrambled(modulus, width, more, seed=11)
+            one = common + scrambled(modulus, width, many, seed=12)
+            other = scrambled(modulus, width, many, seed=13) + common
+            found = meet_of(modulus, width, one, other)
+            self.assertTrue(is_reduced(modulus, width, found))
+            self.assertTrue(all(contains(modulus, width, found, vector) for vector in common))
+            self.assertTrue(all(contains(modulus, width, one, row) and contains(modulus, width, other, row) for row in found))
+            both = len(reduced(modulus, width, one)) + len(reduced(modulus, width, other))
+            self.assertEqual(len(found), both - len(sum_of(modulus, width, one, other)))
+            complements = [complement(modulus, width, space) for space in (one, other)]
+            self.assertEqual(found, complement(modulus, width, sum_of(modulus, width, *complements)))
+            self.assertEqual(meet_of(modulus, width, other, one, one), found)
+            three = meet_of(modulus, width, one, common, other)
+            self.assertEqual(three, reduced(modulus, width, common))
+            self.assertEqual(meet_all(modulus, width, (one, other, (), one)), ())
+
+    def test_the_inputs_that_took_long(self):
+        one = tuple(tuple(((i * 40 + j + 3) ** 5 + i * j * j + i ** 7 * j ** 3) % 97 for j in range(40)) for i in range(15))
+        other = tuple(tuple(((i * 40 + j + 7) ** 7 + i * i * j + i ** 5 * j ** 6) % 97 for j in range(40)) for i in range(15))
+        start = time.perf_counter()
+        for _ in range(20):
+            found = complement(97, 40, one), complement(97, 40, other), meet_of(97, 40, one, other)
+        # Long before it took more than 0.2 seconds on a fast machine; a slow one has time enough.
+        self.assertLess(time.perf_counter() - start, 2)
+        self.assertEqual([len(space) for space in found[:2]], [40 - len(reduced(97, 40, space)) for space in (one, other)])
+        self.assertEqual(found[2], complement(97, 40, sum_of(97, 40, *found[:2])))
 
 
 class ColumnBasisTests(unittest.TestCase):

@@ -8,7 +8,15 @@ from driveends.numbers.arithmetic import inverse_of, multiple
 
 def first_entry(vector):
     """The first position at which the vector, which is not zero, is not 0."""
-    return min([at for at, entry in enumerate(vector) if entry != 0])
+    at = 0
+    while vector[at] == 0:
+        at += 1
+    return at
+
+
+def without_multiple(modulus, vector, factor, row):
+    """The vector less the factor times the row, as a list."""
+    return [(entry - factor * taken) % modulus for entry, taken in zip(vector, row)]
 
 
 def cleared(modulus, vector, row):
@@ -16,7 +24,7 @@ def cleared(modulus, vector, row):
     factor = vector[row.index(1)]
     if factor == 0:
         return vector
-    return tuple([(entry - factor * taken) % modulus for entry, taken in zip(vector, row)])
+    return tuple(without_multiple(modulus, vector, factor, row))
 
 
 def remainder(modulus, rows, vector):
@@ -37,15 +45,24 @@ def with_vector(modulus, rows, vector):
 
 def reduced_rows(modulus, vectors):
     """The reduced rows of the span."""
-    rows = ()
+    # The rows are sorted only at the end; until then each one keeps the place at which it was found.
+    rows = []
+    pivots = []
     for vector in vectors:
         # Nothing is outside of the space of all vectors, so there is nothing left to look for.
         if len(rows) == len(vector):
-            return rows
-        left = remainder(modulus, rows, vector)
-        if any(left):
-            rows = with_vector(modulus, rows, left)
-    return rows
+            break
+        for pivot, row in zip(pivots, rows):
+            if vector[pivot] != 0:
+                vector = without_multiple(modulus, vector, vector[pivot], row)
+        if any(vector):
+            new = first_entry(vector)
+            unit = multiple(modulus, inverse_of(modulus, vector[new]), vector)
+            rows = [without_multiple(modulus, row, row[new], unit) if row[new] != 0 else row for row in rows]
+            rows.append(unit)
+            pivots.append(new)
+    order = sorted(list(zip(pivots, range(len(rows)))))
+    return tuple([tuple(rows[at]) for _, at in order])
 
 
 def in_span(modulus, rows, vector):
@@ -53,20 +70,22 @@ def in_span(modulus, rows, vector):
     return not any(remainder(modulus, rows, vector))
 
 
-def vector_of_complement(modulus, width, rows, free):
-    """The vector of the complement that is 1 at this position and 0 at all others without a pivot."""
-    vector = [0 for _ in range(width)]
-    vector[free] = 1
-    for row in rows:
-        vector[row.index(1)] = -row[free] % modulus
-    return tuple(vector)
-
-
-def complement_rows(modulus, width, rows):
-    """The reduced rows of the complement of the span of reduced rows."""
-    pivots = [row.index(1) for row in rows]
-    free = [at for at in range(width) if at not in pivots]
-    return reduced_rows(modulus, [vector_of_complement(modulus, width, rows, at) for at in free])
+def complement_rows(modulus, width, vectors):
+    """The reduced rows of the complement of the span."""
+    # With the columns in the opposite order, each row is 0 behind its pivot when read forwards. So the
+    # vectors that are 1 at one column without a pivot, and 0 at the other such columns, are reduced.
+    rows = reduced_rows(modulus, [vector[::-1] for vector in vectors])
+    last = width - 1
+    pivots = [last - row.index(1) for row in rows]
+    found = []
+    for free in range(width):
+        if free not in pivots:
+            vector = [0 for _ in range(width)]
+            vector[free] = 1
+            for pivot, row in zip(pivots, rows):
+                vector[pivot] = -row[last - free] % modulus
+            found.append(tuple(vector))
+    return tuple(found)
 
 
 def sum_rows(modulus, spaces):
@@ -76,9 +95,39 @@ def sum_rows(modulus, spaces):
 
 def meet_rows(modulus, width, spaces):
     """The reduced rows of the meet of some spaces."""
-    # A vector is in all spaces exactly if it is in the complement of each complement.
-    complements = [complement_rows(modulus, width, reduced_rows(modulus, space)) for space in spaces]
-    return complement_rows(modulus, width, sum_rows(modulus, complements))
+    if not spaces:
+        return complement_rows(modulus, width, ())
+    order = sorted(spaces, key=len)
+    common = reduced_rows(modulus, order[0])
+    for space in order[1:]:
+        common = common_rows(modulus, width, common, reduced_rows(modulus, space))
+    return common
+
+
+def without_entry(modulus, rows, at):
+    """The rows, of which the last one that is not 0 at this place is taken off the others and left out."""
+    touched = [k for k, row in enumerate(rows) if row[at] != 0]
+    if not touched:
+        return rows
+    last = rows[touched[-1]]
+    unit = inverse_of(modulus, last[at])
+    before = [
+        row if row[at] == 0 else tuple(without_multiple(modulus, row, row[at] * unit % modulus, last))
+        for row in rows[:touched[-1]]
+    ]
+    return before + rows[touched[-1] + 1:]
+
+
+def common_rows(modulus, width, one, other):
+    """The reduced rows of the meet of the spans of reduced rows."""
+    pivots = [row.index(1) for row in other]
+    free = [at for at in range(width) if at not in pivots]
+    # What the other rows leave of a row is put in front of it: sums with zeros there are in both spans.
+    rows = [picked(remainder(modulus, other, row), free) + row for row in one]
+    for at in range(len(free)):
+        # The last row is 0 at the pivots of the earlier ones, so these stay reduced without it.
+        rows = without_entry(modulus, rows, at)
+    return tuple([row[len(free):] for row in rows])
 
 
 def picked(vector, columns):

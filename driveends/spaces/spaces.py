@@ -83,7 +83,7 @@ def factors_for(modulus, width, vectors, target):
 
 def bar_against(modulus, width, vectors, target):
     """A vector whose dot product is 0 with each vector, but not with the target outside of their span."""
-    candidates = complement_rows(modulus, width, reduced_rows(modulus, vectors))
+    candidates = complement_rows(modulus, width, vectors)
     bars = [vector for vector in candidates if dot_product(modulus, vector, target) != 0]
     return bars[0]
 
@@ -152,7 +152,7 @@ def meet_all(modulus, width, spaces):
 def complement(modulus, width, vectors):
     """The space of the vectors whose dot product with each vector is 0."""
     check_space(modulus, width, vectors)
-    return complement_rows(modulus, width, reduced_rows(modulus, vectors))
+    return complement_rows(modulus, width, vectors)
 
 
 def projected(modulus, width, vectors, columns):
