@@ -228,6 +228,12 @@ class SpannedTests(unittest.TestCase):
             found = Behaviour.spanned(5, ("a", "b"), (record,))
             self.assertEqual(found, Behaviour.of(Diagram(5, Same("a", "b"), ends=("a", "b"))))
             self.assertEqual(found.depth, 0)
+        for many in range(1, 9):
+            ends = tuple("abcdefgh"[:many])
+            for length in (1, 2, 5):
+                found = Behaviour.spanned(2, ends, (((1,) * many,) * length,))
+                self.assertEqual(found, Behaviour.of(Diagram(2, Same(*ends), ends=ends)))
+                self.assertEqual((found.rank, found.depth, found.has(((1,) * many,))), (1, 0, True))
         two = (((1, 0, 1), (0, 1, 0)), ((1, 0, 1), (0, 1, 1)))
         self.assertEqual(Behaviour.spanned(5, ("a", "b", "c"), two).depth, 1)
 

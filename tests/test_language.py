@@ -173,6 +173,84 @@ class LanguageTests(unittest.TestCase):
                     if token.type == tokenize.STRING:
                         self.assertIsNone(re.search(r"\\[^nt\\'\"]", token.string), (name, token.start))
 
+    def test_expressions(self):
+        for name, _, tree in sources():
+            # Classes of the package have `__eq__`, so lists stand where generator expressions could.
+            self.assertEqual(nodes(tree, (ast.GeneratorExp, ast.NamedExpr, ast.Match, ast.Nonlocal)), [], name)
+            for node in nodes(tree, ast.BinOp):
+                if isinstance(node.op, ast.Pow):
+                    self.assertIsInstance(node.right, ast.Constant, (name, node.lineno))
+            for node in nodes(tree, ast.Compare):
+                for operator, value in zip(node.ops, node.comparators):
+                    if isinstance(operator, (ast.Is, ast.IsNot)):
+                        self.assertIsInstance(value, ast.Constant, (name, node.lineno))
+            for node in nodes(tree, (ast.Set, ast.SetComp)):
+                self.fail((name, node.lineno))
+            held = [one.args[0] for one in nodes(tree, ast.Call) if getattr(one.func, "id", "") in ("sorted", "len") and one.args]
+            for node in nodes(tree, ast.Call):
+                if getattr(node.func, "id", "") == "set":
+                    self.assertIn(node, held, (name, node.lineno))
+
+    def test_calls_with_stars(self):
+        plain = (ast.Name, ast.Constant, ast.Attribute)
+        for name, _, tree in sources():
+            for node in nodes(tree, ast.Call):
+                stars = [at for at, one in enumerate(node.args) if isinstance(one, ast.Starred)]
+                if stars:
+                    behind = [getattr(one, "value", one) if isinstance(one, ast.Starred) else one for one in node.args[stars[0]:]]
+                    for one in behind + [keyword.value for keyword in node.keywords]:
+                        self.assertIsInstance(one, plain, (name, node.lineno))
+                self.assertEqual([one for one in node.keywords if one.arg is None], [], (name, node.lineno))
+
+    def test_only_own_errors_are_caught(self):
+        own = {node.name for _, _, tree in sources() for node in nodes(tree, ast.ClassDef)}
+        for name, _, tree in sources():
+            for node in nodes(tree, ast.ExceptHandler):
+                caught = node.type.elts if isinstance(node.type, ast.Tuple) else [node.type]
+                self.assertLessEqual({one.id for one in caught}, own, (name, node.lineno))
+            for node in nodes(tree, ast.Raise):
+                self.assertIsInstance(node.exc, ast.Call, (name, node.lineno))
+                self.assertIsInstance(node.exc.func, ast.Name, (name, node.lineno))
+
+    def test_generators_have_names_of_their_own(self):
+        names, generators = [], []
+        for _, _, tree in sources():
+            for node in nodes(tree, ast.FunctionDef):
+                names.append(node.name)
+                if nodes(node, (ast.Yield, ast.YieldFrom)):
+                    generators.append(node.name)
+        self.assertEqual([name for name in generators if names.count(name) > 1 or name in METHODS], [])
+
+    def test_names_of_methods_attributes_and_properties(self):
+        methods, attributes, properties, settable = set(), set(), set(), set()
+        for _, _, tree in sources():
+            for holder in nodes(tree, ast.ClassDef):
+                for node in nodes(holder, ast.FunctionDef):
+                    decorators = {getattr(one, "id", "") or one.attr for one in node.decorator_list}
+                    if "setter" in decorators:
+                        settable.add(node.name)
+                    (properties if decorators & {"property", "setter"} else methods).add(node.name)
+            attributes |= {
+                node.attr for node in nodes(tree, ast.Attribute) if isinstance(node.ctx, ast.Store)
+            }
+        self.assertEqual(methods & properties, set())
+        self.assertEqual(methods & attributes, set())
+        self.assertLessEqual(attributes & properties, settable)
+
+    def test_shapes_of_double_underscore_methods(self):
+        for name, _, tree in sources():
+            for holder in nodes(tree, ast.ClassDef):
+                for node in nodes(holder, ast.FunctionDef):
+                    returned = [one.value for one in nodes(node, ast.Return)]
+                    if node.name == "__init__":
+                        self.assertEqual(returned, [], (name, holder.name))
+                    if node.name == "__len__":
+                        self.assertEqual([one.func.id for one in returned], ["len"], (name, holder.name))
+                    if node.name == "__str__":
+                        for one in returned:
+                            shape = isinstance(one, ast.JoinedStr) or one.func.id == "str"
+                            self.assertTrue(shape, (name, holder.name))
+
     def test_no_file_imports_itself_through_others(self):
         imports = {}
         for name, _, tree in sources():

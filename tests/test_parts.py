@@ -91,6 +91,12 @@ class ShapeTests(unittest.TestCase):
                     setattr(part, name, ("x",))
             self.assertEqual(str(part), text)
 
+    def test_names_of_one_to_eight_letters(self):
+        for name in ("a", "z", "self", "abcdefgh", "zzzzzzzz", "sum", "mix"):
+            self.assertEqual(Sum(name).lines, (name,))
+            self.assertEqual(str(Use(name, name)), f"Use {name} {name}")
+            self.assertEqual(Part.read(f"Mix {name} {name}=5"), Mix(name, **{name: 5}) if name != "self" else Mix.of(name, ((name, 5),)))
+
     def test_limits(self):
         self.assertEqual(len(Sum(*SIXTY).lines), 60)
         self.assertEqual(len(Same(*SIXTY).lines), 60)

@@ -92,6 +92,11 @@ def settled(modulus, width, flats):
     return [done[column] for _, column in sorted([(len(done[column]), column) for column in done])]
 
 
+def unit_list(width, column):
+    """The flat record of the vector that is 1 at this column."""
+    return [int(at == column) for at in range(width)]
+
+
 def unit_products(width, flats, column):
     """The products of all records with the vector that is 1 at this column: time by time, one for each record."""
     longest = max([len(flat) for flat in flats])
@@ -135,11 +140,6 @@ def orthogonal(modulus, width, flats):
     return settled(modulus, width, found)
 
 
-def unit_list(width, column):
-    """The flat record of the vector that is 1 at this column."""
-    return [int(at == column) for at in range(width)]
-
-
 def total_depth(width, flats):
     """The sum of the lengths, each less 1."""
     return sum([len(flat) // width - 1 for flat in flats])
@@ -147,8 +147,6 @@ def total_depth(width, flats):
 
 def both_bases(modulus, width, records):
     """The settled generators of the behaviour that these records span, and those of its dual."""
-    if width == 0:
-        return (), ()
     flats = settled(modulus, width, [flat_record(record) for record in records])
     duals = orthogonal(modulus, width, flats)
     # A behaviour and its dual have the same depth. Records that have more of it lack some delayed ones.

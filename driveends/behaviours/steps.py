@@ -26,7 +26,7 @@ def predictors_of(behaviour):
 
 def last_numbers(width, many, past):
     """So many numbers from the end of the past, with zeros ahead of it."""
-    recent = past[max(0, len(past) - many // max(1, width)):]
+    recent = past[max(0, len(past) - many // width):]
     zeros = [0 for _ in range(many - len(recent) * width)]
     return zeros + [number for vector in recent for number in vector]
 

@@ -156,8 +156,8 @@ def diagram_of_text(text):
     head, _, body = text.partition(":")
     before, _, behind = body.partition("->")
     texts = before.strip().split(", ")
-    parts = [Part.read(one) for one in texts if one != ""]
-    return Diagram(modulus_of(head), *parts, ends=tuple(behind.split()))
+    parts = tuple([Part.read(one) for one in texts if one != ""])
+    return Diagram.of(modulus_of(head), parts, tuple(behind.split()))
 
 
 def terms_of(modulus, terms):
@@ -165,7 +165,7 @@ def terms_of(modulus, terms):
     sums = {}
     for line, factor in terms:
         sums[line] = (sums.get(line, 0) + factor) % modulus
-    return {line: sums[line] for line in sorted(sums) if sums[line] != 0}
+    return {line: sums[line] for line in sorted(list(sums)) if sums[line] != 0}
 
 
 def check_plain(diagram):

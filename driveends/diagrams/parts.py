@@ -58,7 +58,7 @@ class Part:
 
     def with_lines(self, lines):
         """The part of the same kind with these lines in the places of its own."""
-        raise NotImplementedError("each kind has its own lines")
+        raise InvalidPart("only the kinds have lines")
 
     def numbers(self):
         """The number or the factors, as in the text."""
@@ -185,7 +185,6 @@ class Mix(Part):
         check_tuple(pairs)
         if not all([isinstance(pair, tuple) and len(pair) == 2 for pair in pairs]):
             raise InvalidPart("a pair is a tuple of a line and a factor")
-        check_name(target_line)
         mix = Mix(target_line)
         mix._keep(target_line, pairs)
         return mix

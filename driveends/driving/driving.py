@@ -145,9 +145,10 @@ def at_once(behaviour, ends):
 def exchanges(behaviour, ends, name):
     """The driving ends that can be taken out if this end is put in."""
     acting = at_once(behaviour, ends)
-    if name not in [end for end in acting]:
+    # The name may be any value, also one that a dict cannot look up.
+    if name not in list(acting):
         raise UnknownName(name)
-    return tuple([end for end in acting[name]])
+    return tuple(acting[name])
 
 
 def led_ends(behaviour):
