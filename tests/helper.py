@@ -305,3 +305,65 @@ def nested(depth, core):
     for _ in range(depth):
         core = (core,)
     return core
+
+
+def some_matrices(some, modulus, cells, drivers, others):
+    """Four matrices of a machine: stay, enter, show, direct; many of their numbers are 0."""
+    shapes = ((cells, cells), (drivers, cells), (cells, others), (drivers, others))
+    return tuple(
+        tuple(tuple(some.below(modulus) * some.below(2) for _ in range(width)) for _ in range(many)) for many, width in shapes
+    )
+
+
+def machine_text(modulus, drivers, others, matrices):
+    """The text of a diagram that says what a machine does; cells and next cells get names of their own."""
+    stay, enter, show, direct = matrices
+    cells = ["cell" + "abcdefghijkl"[k] for k in range(len(stay))]
+    following = ["next" + "abcdefghijkl"[k] for k in range(len(stay))]
+    parts = [f"Delay {before} {after}" for before, after in zip(following, cells)]
+    for targets, from_cells, from_drivers in ((following, stay, enter), (others, show, direct)):
+        for at, target in enumerate(targets):
+            terms = [(line, row[at]) for line, row in zip(cells, from_cells)]
+            terms += [(line, row[at]) for line, row in zip(drivers, from_drivers)]
+            parts.append(" ".join(["Mix", target] + [f"{line}={factor}" for line, factor in sorted(terms)]))
+    return " ".join(word for word in (f"{modulus}:", ", ".join(parts), "->", *drivers, *others) if word)
+
+
+def steps_of(modulus, matrices, inputs, cells=None):
+    """What a machine shows for these inputs, and its cells behind them, by the words of [9.2]."""
+    stay, enter, show, direct = matrices
+    cells = [0] * len(stay) if cells is None else list(cells)
+    found = []
+    for numbers in inputs:
+        found.append(tuple(
+            (sum(c * row[at] for c, row in zip(cells, show)) + sum(u * row[at] for u, row in zip(numbers, direct))) % modulus
+            for at in range(len(show[0]) if show else len(direct[0]) if direct else 0)
+        ))
+        cells = [
+            (sum(c * row[at] for c, row in zip(cells, stay)) + sum(u * row[at] for u, row in zip(numbers, enter))) % modulus
+            for at in range(len(stay))
+        ]
+    return tuple(found), cells
+
+
+def padded(record, length, width):
+    """The record with vectors of zeros behind it, up to this length."""
+    return tuple(record) + ((0,) * width,) * (length - len(record))
+
+
+def trimmed(record):
+    """The record without the vectors of zeros at its end."""
+    while record and not any(record[-1]):
+        record = record[:-1]
+    return tuple(record)
+
+
+def sum_of_products(modulus, width, records, streams):
+    """The sum of all records, each delayed by 0, 1 and so on with the factors of its stream ([5.2])."""
+    length = max([len(record) + len(stream) for record, stream in zip(records, streams)], default=0)
+    total = [[0] * width for _ in range(length)]
+    for record, stream in zip(records, streams):
+        for back, factor in enumerate(stream):
+            for at, vector in enumerate(record):
+                total[at + back] = [(one + factor * two) % modulus for one, two in zip(total[at + back], vector)]
+    return trimmed(tuple(tuple(vector) for vector in total))

@@ -35,6 +35,16 @@ SIGNATURES = {
         "led_ends(behaviour)", "leading_ends(behaviour)",
     ),
     "driveends.runs.runs": ("same_future(one, other)",),
+    "driveends.depth.generators": (
+        "least_generators(behaviour)", "are_generators(behaviour, value)", "are_least(behaviour, value)",
+        "factors(behaviour, generators, record)",
+    ),
+    "driveends.depth.machines": (
+        "machine(behaviour, ends)", "is_machine(behaviour, ends, value)", "outputs(modulus, machine, inputs)",
+    ),
+    "driveends.depth.depth": (
+        "depth_paper(behaviour, ends)", "is_depth_paper(behaviour, value)", "fewest_delays(behaviour)",
+    ),
 }
 # For each class its methods, its class methods, its properties, and its class values; each stands in its own body.
 PART = (("renamed(self, **names)", "renamed_by(self, names)", "__str__(self)", "__eq__(self, other)"), ("kind", "lines"))

@@ -92,6 +92,12 @@ def settled(modulus, width, flats):
     return [done[column] for _, column in sorted([(len(done[column]), column) for column in done])]
 
 
+def settled_records(modulus, width, records):
+    """The settled generators of all sums of multiples of these records delayed."""
+    flats = settled(modulus, width, [flat_record(record) for record in records])
+    return tuple([record_of(width, flat) for flat in flats])
+
+
 def unit_list(width, column):
     """The flat record of the vector that is 1 at this column."""
     return [int(at == column) for at in range(width)]

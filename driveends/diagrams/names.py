@@ -3,6 +3,7 @@
 from driveends.errors import InvalidEnds, InvalidName
 
 MAX_LETTERS = 8
+LETTERS = "abcdefghijklmnopqrstuvwxyz"
 
 
 def is_name(value):
@@ -50,3 +51,26 @@ def renamed_lines(lines, names):
     """The lines, each one that is a key replaced by its value."""
     check_renaming(names)
     return tuple([names.get(line, line) for line in lines])
+
+
+def name_at(index):
+    """The name at this position of the list a, b, .. z, aa, ab and so on."""
+    name = ""
+    many = index + 1
+    while many > 0:
+        many, letter = divmod(many - 1, len(LETTERS))
+        name = LETTERS[letter] + name
+    return name
+
+
+def new_names(many, taken):
+    """The first so many names that are not among the taken ones."""
+    known = {name: True for name in taken}
+    found = []
+    index = 0
+    while len(found) < many:
+        name = name_at(index)
+        if name not in known:
+            found.append(name)
+        index += 1
+    return found

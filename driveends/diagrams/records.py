@@ -3,7 +3,7 @@
 from driveends.diagrams.diagrams import check_plain, equations
 from driveends.diagrams.stretches import Stretch
 from driveends.errors import TooLarge, UnknownName
-from driveends.numbers.numbers import are_numbers
+from driveends.numbers.numbers import are_numbers, are_rows
 from driveends.numbers.records import check_record
 
 MAX_MOMENTS = 30
@@ -70,13 +70,6 @@ def is_filling(diagram, record, value, *, finite=False):
     return all([holds(diagram.modulus, pair, value, length) for pair in equations(diagram)])
 
 
-def are_multipliers(modulus, length, width, value):
-    """Whether the value is a tuple of so many vectors of this length."""
-    if not isinstance(value, tuple) or len(value) != length:
-        return False
-    return all([are_numbers(modulus, vector) and len(vector) == width for vector in value])
-
-
 def total_factors(diagram, pairs, multipliers):
     """For each line its total factors at the times of the stretch, and at the time before it as the last one."""
     modulus = diagram.modulus
@@ -97,7 +90,7 @@ def is_bar(diagram, record, value, *, finite=False):
     check_question(diagram, record)
     pairs = equations(diagram)
     many, last = diagram.delays, diagram.delays + len(record)
-    if not are_multipliers(diagram.modulus, last + many, len(pairs), value):
+    if not are_rows(diagram.modulus, last + many, len(pairs), value):
         return False
     totals = total_factors(diagram, pairs, value)
     if any([any(totals[line]) for line in diagram.lines if line not in diagram.ends]):

@@ -9,9 +9,14 @@ from driveends.spaces.elimination import complement_rows, picked, projected_rows
 from driveends.spaces.spaces import column_bases
 
 
+def is_ends_of(behaviour, value):
+    """Whether the value is a tuple of distinct ends of the behaviour."""
+    return are_distinct_names(value) and all([end in behaviour.ends for end in value])
+
+
 def check_ends(behaviour, ends):
     """Raise InvalidEnds if this is not a tuple of distinct ends of the behaviour."""
-    if not are_distinct_names(ends) or not all([end in behaviour.ends for end in ends]):
+    if not is_ends_of(behaviour, ends):
         raise InvalidEnds("these are not distinct ends of the behaviour")
 
 

@@ -38,6 +38,13 @@ def are_vectors(modulus, width, value):
     return all([are_numbers(modulus, vector) and len(vector) == width for vector in value])
 
 
+def are_rows(modulus, many, width, value):
+    """Whether the value is a tuple of exactly so many vectors of this length, for a modulus that is known to be one."""
+    if not isinstance(value, tuple) or len(value) != many:
+        return False
+    return all([are_numbers(modulus, vector) and len(vector) == width for vector in value])
+
+
 def check_modulus(modulus):
     """Raise InvalidModulus if this is not a modulus."""
     if not is_modulus(modulus):

@@ -1,0 +1,1 @@
+"""Generators, machines and depth of behaviours."""
