@@ -367,3 +367,91 @@ def sum_of_products(modulus, width, records, streams):
             for at, vector in enumerate(record):
                 total[at + back] = [(one + factor * two) % modulus for one, two in zip(total[at + back], vector)]
     return trimmed(tuple(tuple(vector) for vector in total))
+
+
+class Sketch:
+    """A diagram as words, read from its text, to write other diagrams that say something about it."""
+
+    def __init__(self, modulus, parts, ends):
+        self.modulus = modulus
+        self.parts = [list(part) for part in parts]
+        self.ends = list(ends)
+
+    @staticmethod
+    def read(text):
+        head, _, body = text.partition(":")
+        before, _, behind = body.partition("->")
+        return Sketch(int(head), [one.split(" ") for one in before.strip().split(", ") if one], behind.split())
+
+    def text(self):
+        """The text, with the pairs of each Mix in their order."""
+        texts = []
+        for kind, *words in self.parts:
+            if kind == "Mix":
+                pairs = sorted((line, int(factor)) for line, factor in [word.split("=") for word in words[1:]])
+                words = words[:1] + [f"{line}={factor}" for line, factor in pairs]
+            texts.append(" ".join([kind, *words]))
+        return " ".join(word for word in (f"{self.modulus}:", ", ".join(texts), "->", *self.ends) if word)
+
+    def lines(self):
+        """All lines."""
+        found = {word.split("=")[0] for kind, *words in self.parts for word in words[kind == "Use":]}
+        return sorted({line for line in found if line[0].isalpha()} | set(self.ends))
+
+    def renamed(self, names):
+        """The sketch with other names for lines."""
+        def new(word):
+            line, mark, factor = word.partition("=")
+            return names.get(line, line) + mark + factor
+
+        parts = []
+        for kind, *words in self.parts:
+            kept = [kind] + words[:kind == "Use"]
+            parts.append(kept + [new(word) for word in words[kind == "Use":]])
+        return Sketch(self.modulus, parts, [names.get(end, end) for end in self.ends])
+
+    def apart(self, letter):
+        """The sketch with a letter in front of the names of all lines that are no ends."""
+        return self.renamed({line: letter + line for line in self.lines() if line not in self.ends})
+
+    def all_apart(self, letter):
+        """The sketch with a letter in front of all names."""
+        return self.renamed({line: letter + line for line in self.lines()})
+
+    def with_parts(self, *parts, ends=None):
+        """The sketch with more parts, and with these ends."""
+        return Sketch(self.modulus, self.parts + [list(part) for part in parts], self.ends if ends is None else ends)
+
+
+def sketches_by_modulus(many, seed, most_ends=3):
+    """Lists of small sketches, each of one modulus."""
+    found = {}
+    for text in small_texts(many, seed):
+        sketch = Sketch.read(text)
+        if len(sketch.ends) <= most_ends:
+            found.setdefault(sketch.modulus, []).append(sketch)
+    return list(found.values())
+
+
+def sketch_pairs(many, seed, most_ends=3):
+    """Pairs of small sketches of one modulus."""
+    some = Numbers(seed)
+    groups = sketches_by_modulus(many, seed, most_ends)
+    return [(one, some.one_of(group)) for group in groups for one in group]
+
+
+def check_faults(test, function, names, good, faults, keywords=None):
+    """Each fault alone raises its error, and of two faults the earlier one does.
+
+    A fault is a tuple (name of the argument, bad value, class of the error, what it keeps), in the order of the checks.
+    """
+    for at, (name, bad, kind, kept) in enumerate(faults):
+        tables = [{**good, name: bad}]
+        tables += [{**good, later[0]: later[1], name: bad} for later in faults[at + 1:] if later[0] != name]
+        for table in tables:
+            error = caught(function, *[table[one] for one in names], **(keywords or {}))
+            note = (function.__name__, name, bad, table)
+            test.assertIs(type(error), kind, note)
+            if vars(error):
+                (value,) = vars(error).values()
+                test.assertTrue(same(value, kept), (note, value, kept))

@@ -45,6 +45,20 @@ SIGNATURES = {
     "driveends.depth.depth": (
         "depth_paper(behaviour, ends)", "is_depth_paper(behaviour, value)", "fewest_delays(behaviour)",
     ),
+    "driveends.operations.operations": (
+        "hidden(behaviour, ends)", "held(behaviour, ends)", "tied(behaviour, *ends, keep=False)",
+        "tied_all(behaviour, ends, *, keep=False)", "joined(one, other, ends, *, keep=False)", "beside(*behaviours)",
+        "beside_all(behaviours)", "plus(one, other)", "meet(one, other)", "renamed(behaviour, **names)",
+        "renamed_by(behaviour, names)", "reordered(behaviour, ends)",
+    ),
+    "driveends.operations.turned": (
+        "product_of(modulus, first, second)", "dual(behaviour)", "reversed_time(behaviour)", "are_orthogonal(one, other)",
+        "product_gap(behaviour, record)", "turned(diagram)", "dual_diagram(diagram)",
+    ),
+    "driveends.wishes.wishes": (
+        "helper_ends(part, goal)", "shown(part, goal, helper)", "bounds(part, goal)", "widest_helper(part, goal)",
+        "wish(part, goal)", "is_wish_paper(part, goal, value)",
+    ),
 }
 # For each class its methods, its class methods, its properties, and its class values; each stands in its own body.
 PART = (("renamed(self, **names)", "renamed_by(self, names)", "__str__(self)", "__eq__(self, other)"), ("kind", "lines"))
@@ -88,12 +102,24 @@ CLASSES = {
             {"MAX_STEPS": 200},
         ),
     },
+    "driveends.workshop.workshop": {
+        "Workshop": (
+            ("__init__(self, modulus)", "__len__(self)", "__str__(self)", "__eq__(self, other)",
+             "define(self, name, *parts, ends=())", "put(self, name, diagram)", "remove(self, name)", "names(self)",
+             "users(self, name)", "runs(self)", "diagram_of(self, name)", "expanded(self, name)", "behaviour_of(self, name)",
+             "run_of(self, run)", "start(self, run, name)", "drive(self, run, values)", "shorten(self, run, steps)",
+             "end(self, run)", "undo(self, *, many=1)", "redo(self, *, many=1)", "trial(self)", "attempt(self, action)"),
+            (),
+            (),
+            {"MAX_DIAGRAMS": 20, "MAX_RUNS": 20, "MAX_CHAIN": 8},
+        ),
+    },
 }
 CONSTANTS = {
     "driveends.numbers.numbers": {"MAX_MODULUS": 97, "MAX_WIDTH": 100, "MAX_VECTORS": 100},
     "driveends.diagrams.records": {"MAX_MOMENTS": 30},
 }
-GENERATORS = ("column_bases", "parts_at", "moments", "beginnings", "driving_sets", "rows")
+GENERATORS = ("column_bases", "parts_at", "moments", "beginnings", "driving_sets", "rows", "names")
 
 
 class InterfaceTests(unittest.TestCase):

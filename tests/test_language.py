@@ -251,6 +251,36 @@ class LanguageTests(unittest.TestCase):
                             shape = isinstance(one, ast.JoinedStr) or one.func.id == "str"
                             self.assertTrue(shape, (name, holder.name))
 
+    def test_double_underscore_methods_assign_only_lists(self):
+        changes = (ast.Assign, ast.AugAssign, ast.AnnAssign, ast.Delete, ast.For, ast.With)
+        for name, _, tree in sources():
+            for node in nodes(tree, ast.FunctionDef):
+                if node.name in ("__eq__", "__repr__", "__str__", "__len__"):
+                    self.assertEqual(nodes(node, changes), [], (name, node.name))
+
+    def test_rows_of_exit(self):
+        """L6: only attributes are assigned, and nothing is called."""
+        for name, _, tree in sources():
+            for node in nodes(tree, ast.FunctionDef):
+                if node.name == "__exit__":
+                    self.assertEqual(nodes(node, (ast.Call, ast.Subscript, ast.For, ast.While, ast.Return)), [], name)
+                    used = {one.id for one in nodes(node, ast.Name)}
+                    self.assertLessEqual(used, {"self", "kind"}, name)
+                    for one in nodes(node, ast.Assign):
+                        self.assertIsInstance(one.targets[0], ast.Attribute, name)
+
+    def test_loops_do_not_change_what_they_iterate_over(self):
+        changing = {"append", "clear", "extend", "insert", "pop", "remove", "reverse", "setdefault", "update"}
+        for name, _, tree in sources():
+            for node in nodes(tree, ast.For):
+                inside = {one.id for one in nodes(node.iter, ast.Name)}
+                for one in nodes(ast.Module(node.body, []), ast.Call):
+                    if isinstance(one.func, ast.Attribute) and one.func.attr in changing:
+                        self.assertNotIn(getattr(one.func.value, "id", ""), inside, (name, one.lineno))
+                for one in nodes(ast.Module(node.body, []), ast.Subscript):
+                    if not isinstance(one.ctx, ast.Load):
+                        self.assertNotIn(getattr(one.value, "id", ""), inside, (name, one.lineno))
+
     def test_no_file_imports_itself_through_others(self):
         imports = {}
         for name, _, tree in sources():

@@ -321,6 +321,11 @@ class Use(Part):
         self._used_name = used_name
         self._settle("Use", (used_name, *lines), lines)
 
+    @property
+    def used_name(self):
+        """The name of the diagram that is used."""
+        return self._used_name
+
     @classmethod
     def of(cls, used_name, lines):
         """The part with the lines of a tuple."""

@@ -1,0 +1,1 @@
+"""New behaviours from others."""

@@ -1,0 +1,1 @@
+"""What must be added to a part to reach a wished behaviour."""

@@ -1,0 +1,1 @@
+"""Named diagrams and runs that are changed while they are in use."""
