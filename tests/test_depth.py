@@ -163,6 +163,8 @@ class PaperTests(unittest.TestCase):
             yield (ends, pasts, tuple((steps, end) for steps, _ in tests))
         yield (ends, pasts, tuple((bool(steps), end) for steps, end in tests))
         yield (ends, pasts, tuple([steps, end] for steps, end in tests))
+        for test in ((), (0,), ("a",), (0, "a", "b"), None, 5, "0a", ((0, "a"),)):
+            yield (ends, pasts, tuple(test if k == 0 else old for k, old in enumerate(tests)))
         yield (ends, list(pasts), tests)
         yield (ends, pasts, list(tests))
         yield (ends, tuple(list(past) for past in pasts), tests)

@@ -429,6 +429,8 @@ class ErrorTests(unittest.TestCase):
         faults += [("ends", ("a",), Conflict, "b"), ("ends", ("b",), Conflict, "a"), ("ends", (), Conflict, "a")]
         check_faults(self, joined, ("one", "other", "ends"), good, faults)
         check_faults(self, joined, ("one", "other", "ends"), good, faults, {"keep": True})
+        for ends in (("c",), ("a", "b", "c"), ("b", "c")):
+            self.assertIs(type(caught(joined, L, A, ends)), InvalidEnds)
         # The first end of `one`, also where `other` has another order.
         wide = Behaviour.whole(5, tuple("hgfedcba"))
         error = caught(joined, wide, Behaviour.whole(5, ("a", "z", "g", "h")), ("h",))

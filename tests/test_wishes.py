@@ -203,6 +203,8 @@ class WishTests(unittest.TestCase):
         for helper in (Behaviour.silent(5, ("c", "d")), Behaviour.whole(5, ("c", "d")), renamed(K, a="c", b="d")):
             self.assertIs(is_wish_paper(part, L, ("helper", helper)), True)
         self.assertEqual(widest_helper(part, L), Behaviour.whole(5, ("c", "d")))
+        for helper in (Behaviour.silent(3, ("c", "d")), Behaviour.whole(3, ("c", "d")), Behaviour.whole(5, ("d", "c")), L):
+            self.assertIs(is_wish_paper(part, L, ("helper", helper)), False)
         self.assertIs(is_wish_paper(PART, GOAL, ("helper", far(1, ("b", "d")))), True)
         for helper in (far(2, ("b", "d")), far(0, ("b", "d")), far(1, ("d", "b")), far(1, ("b", "d"), 3), far(1)):
             self.assertIs(is_wish_paper(PART, GOAL, ("helper", helper)), False)
@@ -213,6 +215,11 @@ class WishTests(unittest.TestCase):
             for word in ("helper", "inner", "outer", "", 0, None):
                 self.assertIs(is_wish_paper(PART, GOAL, (word, value)), False)
                 self.assertIs(is_wish_paper(A, PAIR, (word, value)), False)
+        whole = Behaviour.whole(5, ("a", "b"))
+        for word in ("helper", "inner", "", "Outer", 0, None, ("outer",)):
+            self.assertIs(is_wish_paper(L, whole, ("outer", ((0, 1),))), True)
+            self.assertIs(is_wish_paper(L, whole, (word, ((0, 1),))), False)
+            self.assertIs(is_wish_paper(A, PAIR, (word, ((3, 3),))), word == "inner")
         self.assertIs(is_wish_paper(A, PAIR, ["inner", ((3, 3),)]), False)
         self.assertIs(is_wish_paper(A, PAIR, ("inner", [(3, 3)])), False)
         self.assertIs(is_wish_paper(A, PAIR, ("inner", ((3, 3),), ())), False)

@@ -775,6 +775,13 @@ class LimitTests(unittest.TestCase):
         # Now zz has 20 + 8 + 33 lines, and aa has 20 + 1 + 33; mm in between has 13 delays.
         self.too_large(12, shop, "define", "base", Same(*names[20:53]), Delay(names[20], names[21]))
         self.too_large(60, shop, "define", "base", Same(*names[20:53]))
+        # If aa has too many delays of its own, it comes before zz, although zz is the one that is nearer.
+        shop.define("aa", Use("zz", *["x"] * 8), *[Delay("a", "b") for _ in range(12)])
+        self.too_large(12, shop, "define", "base", Same(*names[20:53]), Delay(names[20], names[21]))
+        shop.remove("mm")
+        self.too_large(12, shop, "define", "base", Same(*names[20:53]), Delay(names[20], names[21]))
+        shop.define("aa", Use("zz", *["x"] * 8))
+        self.too_large(60, shop, "define", "base", Same(*names[20:53]), Delay(names[20], names[21]))
         self.assertEqual(shop.define("base", Same(*names[20:52])), ())
         self.assertEqual(len(shop.expanded("zz").lines), 60)
         self.assertEqual(len(shop.expanded("aa").lines), 53)
@@ -789,6 +796,13 @@ class LimitTests(unittest.TestCase):
         self.too_large(40, shop, "define", "xa", Same("a"), Same("a"))
         self.too_large(40, shop, "define", "xa", Same("a"))
         self.assertEqual(shop.define("xa", ends=()), ())
+        # Here the first one by name is the largest one.
+        shop = Workshop(2)
+        shop.define("xh")
+        for before, name in zip("hgfedcb", "gfedcba"):
+            shop.define("x" + name, *[Use("x" + before) for _ in range(40)])
+        self.too_large(40, shop, "define", "xh", Same("a"), Same("a"))
+        self.too_large(40, shop, "define", "xh", Same("a"))
         self.assertLess(time.perf_counter() - start, 5)
 
     def test_a_full_workshop(self):
@@ -825,6 +839,240 @@ def caught_in_fast(shop, method, *arguments, **keywords):
     if (str(shop), seen(shop)) != before:
         raise AssertionError(f"{method} changed something")
     return error
+
+
+class Model:
+    """A workshop by the words of stage 13: all that it does is done anew for every question."""
+
+    def __init__(self, modulus):
+        self.modulus = modulus
+        self.states = [({}, {})]
+        self.at = 0
+
+    def now(self):
+        """The sketches of the diagrams, and the pairs (diagram, past) of the runs."""
+        return self.states[self.at]
+
+    def change(self, sketches, runs):
+        self.states = self.states[:self.at + 1] + [(sketches, runs)]
+        self.at += 1
+
+    def plain(self, sketches, name):
+        return plain_names(expanded_by_words(sketches, name))
+
+    def behaviour(self, sketches, name):
+        return Behaviour.of(Diagram.read(self.plain(sketches, name).text()))
+
+    def needed(self, sketches, name):
+        """The names of the diagrams that this one needs, up to 20 steps away."""
+        found = set()
+        for _ in range(20):
+            found |= {part[1] for one in {name} | found for part in sketches[one].parts if part[0] == "Use"}
+        return found
+
+    def chain(self, sketches, name):
+        return 1 + max([self.chain(sketches, part[1]) for part in sketches[name].parts if part[0] == "Use"], default=0)
+
+    def put(self, name, sketch):
+        old, runs = self.now()
+        sketches = {**old, name: sketch}
+        for part in sketch.parts:
+            if part[0] == "Use" and part[1] not in old:
+                return (UnknownName, part[1])
+        for one in sketches.values():
+            for part in one.parts:
+                if part[0] == "Use" and len(part) - 2 != len(sketches[part[1]].ends):
+                    return (InvalidDiagram, None)
+        if name in self.needed(sketches, name):
+            return (InvalidDiagram, None)
+        if max(self.chain(sketches, one) for one in sketches) > 8:
+            return (TooLarge, 8)
+        affected = [name] + sorted(one for one in sketches if name in self.needed(sketches, one))
+        for one in affected:
+            plain = self.plain(sketches, one)
+            delays = [part for part in plain.parts if part[0] == "Delay"]
+            for size, limit in ((len(plain.parts), 40), (len(plain.lines()), 60), (len(delays), 12)):
+                if size > limit:
+                    return (TooLarge, limit)
+        for run in sorted(runs):
+            if runs[run][0] == name and sketch.ends != old[name].ends:
+                return (Conflict, run)
+        changed = []
+        for run in sorted(runs):
+            used, past = runs[run]
+            if used in affected:
+                behaviour = self.behaviour(sketches, used)
+                if not behaviour.begins(past):
+                    return (Impossible, behaviour.first_impossible(past))
+                if behaviour != self.behaviour(old, used):
+                    changed.append(run)
+        if len(sketches) > 20:
+            return (TooLarge, 20)
+        self.change(sketches, runs)
+        return tuple(changed)
+
+    def remove(self, name):
+        sketches, runs = self.now()
+        if name not in sketches:
+            return (UnknownName, name)
+        users = sorted(one for one in sketches if any(part[:2] == ["Use", name] for part in sketches[one].parts))
+        users += sorted(run for run in runs if runs[run][0] == name)
+        if users:
+            return (Conflict, users[0])
+        self.change({one: sketches[one] for one in sketches if one != name}, runs)
+        return None
+
+    def start(self, run, name):
+        sketches, runs = self.now()
+        if run in runs:
+            return (Conflict, run)
+        if name not in sketches:
+            return (UnknownName, name)
+        self.change(sketches, {**runs, run: (name, ())})
+        return len(runs) + 1
+
+    def drive(self, run, values):
+        sketches, runs = self.now()
+        if run not in runs:
+            return (UnknownName, run)
+        name, past = runs[run]
+        going_on = Run.replayed(self.behaviour(sketches, name), past)
+        error = caught(going_on.drive, values)
+        if error is not None:
+            return (type(error), next(iter(vars(error).values()), None))
+        self.change(sketches, {**runs, run: (name, going_on.record)})
+        return going_on.record[-1]
+
+    def shorten(self, run, steps):
+        sketches, runs = self.now()
+        if run not in runs:
+            return (UnknownName, run)
+        name, past = runs[run]
+        if not 0 <= steps <= len(past):
+            return (InvalidNumber, steps)
+        self.change(sketches, {**runs, run: (name, past[:steps])})
+        return len(past) - steps
+
+    def end(self, run):
+        sketches, runs = self.now()
+        if run not in runs:
+            return (UnknownName, run)
+        self.change(sketches, {one: runs[one] for one in runs if one != run})
+        return len(runs[run][1])
+
+    def undo(self, many):
+        if not 0 <= many <= self.at:
+            return (InvalidNumber, many)
+        self.at -= many
+        return self.at
+
+    def redo(self, many):
+        if not 0 <= many <= len(self.states) - 1 - self.at:
+            return (InvalidNumber, many)
+        self.at += many
+        return self.at
+
+    def seen(self):
+        sketches, runs = self.now()
+        return (
+            tuple((name, sketches[name].text()) for name in sorted(sketches)),
+            tuple((run, *runs[run]) for run in sorted(runs)),
+        )
+
+
+class DrawnTests(unittest.TestCase):
+    """Many drawn calls, right and wrong ones, against the model."""
+
+    NAMES = ("pa", "pb", "pc", "pd", "pe", "pf")
+    RUNS = ("ra", "rb", "rc", "rd")
+
+    def sketch(self, some, model):
+        """A diagram with some of the names in use."""
+        parts = []
+        for _ in range(some.below(4)):
+            lines = some.some_of("abcd", 3)
+            kind = some.one_of(("Use", "Use", "Use", "Use", "Delay", "Sum", "Same", "Times", "many", "long"))
+            if kind == "Use":
+                known = model.now()[0]
+                used = some.one_of(sorted(known) if known and some.below(15) else self.NAMES)
+                many = len(known[used].ends) if used in known and some.below(8) else some.below(4)
+                parts.append([kind, used] + some.some_of("abcd", many))
+            elif kind == "many" and ["Delay", "a", "b"] not in parts:
+                parts += [["Delay", "a", "b"]] * (5 + some.below(4))
+            elif kind == "long":
+                letters = "abcdefghijklmnopqrstuvwxyz"
+                parts.append(["Same"] + [some.one_of("lm") + letters[k] for k in range(20 + some.below(7))])
+            elif kind == "Times":
+                parts.append([kind, str(some.below(3))] + lines[:2])
+            elif kind != "many":
+                parts.append([kind] + lines[:2 if kind == "Delay" else 3])
+        return Sketch(3, parts, some.one_of((["a", "b"], ["a", "b"], ["a", "b"], ["a", "b"], ["b", "a"], ["a"], [])))
+
+    def call(self, some, model, shop):
+        """One call of both; the pair of what they say."""
+        run, name = some.one_of(self.RUNS), some.one_of(self.NAMES)
+        kind = some.one_of(("put",) * 10 + ("drive",) * 12 + ("start", "start", "shorten", "end", "remove", "undo", "redo"))
+        if kind == "put":
+            sketch = self.sketch(some, model)
+            return model.put(name, sketch), said(shop.put, name, Diagram.read(sketch.text()))
+        if kind in ("undo", "redo"):
+            many = some.one_of((0, 1, 1, 2, 3, 9))
+            return getattr(model, kind)(many), said(getattr(shop, kind), many=many)
+        if kind == "drive":
+            values = {"ab"[k]: some.below(3) for k in range(2) if some.below(2)}
+            held = model.now()[1]
+            if run in held and some.below(4):
+                drivers = shop.run_of(run).drivers
+                values = {end: some.below(3) * some.below(2) for end in drivers}
+            return model.drive(run, values), said(shop.drive, run, values)
+        if kind == "start":
+            return model.start(run, name), said(shop.start, run, name)
+        if kind == "shorten":
+            steps = some.below(4)
+            return model.shorten(run, steps), said(shop.shorten, run, steps)
+        if kind == "end":
+            return model.end(run), said(shop.end, run)
+        return model.remove(name), said(shop.remove, name)
+
+    def test_drawn_calls(self):
+        some = Numbers(904)
+        kinds = {}
+        for _ in range(30):
+            model, shop = Model(3), Workshop(3)
+            for before, name in zip(("",) + self.NAMES, self.NAMES):
+                sketch = Sketch(3, [["Use", before, "a", "b"]] * (name != "pa"), ["a", "b"])
+                self.assertEqual((model.put(name, sketch), shop.put(name, Diagram.read(sketch.text()))), ((), ()))
+            for run, name in zip(self.RUNS, self.NAMES[1:]):
+                self.assertEqual(model.start(run, name), shop.start(run, name))
+            for _ in range(100):
+                due, found = self.call(some, model, shop)
+                self.assertTrue(same_answer(due, found), (due, found, seen(shop)))
+                self.assertEqual(seen(shop), model.seen())
+                self.assertEqual(len(shop), len(model.now()[0]))
+                word = due[0].__name__ + str(due[1]) * (due[0] is TooLarge) if is_error(due) else "right"
+                kinds[word] = kinds.get(word, 0) + 1
+            judge_expanded(self, shop)
+        for word in ("right", "UnknownName", "InvalidDiagram", "Conflict", "Impossible", "TooLarge12", "TooLarge60", "NotDriving"):
+            self.assertTrue(any(one.startswith(word) for one in kinds), kinds)
+
+
+def is_error(value):
+    return isinstance(value, tuple) and value != () and isinstance(value[0], type)
+
+
+def same_answer(due, found):
+    """Whether both said the same; the message of an error is free."""
+    if is_error(due) and is_error(found):
+        return due[0] is found[0] and same(due[1], found[1])
+    return same(due, found)
+
+
+def said(function, *arguments, **keywords):
+    """The result of a call, or the class of its error and what this keeps."""
+    try:
+        return function(*arguments, **keywords)
+    except Exception as error:  # the class is judged by the test
+        return (type(error), next(iter(vars(error).values()), None))
 
 
 class ErrorTests(unittest.TestCase):

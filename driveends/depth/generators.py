@@ -5,7 +5,6 @@ from driveends.behaviours.behaviours import check_behaviour
 from driveends.behaviours.steps import last_numbers
 from driveends.errors import InvalidGenerators, InvalidRecord
 from driveends.numbers.arithmetic import columns_of, combined, dot_product
-from driveends.numbers.records import check_record
 from driveends.spaces.elimination import picked, reduced_rows
 
 
@@ -53,10 +52,8 @@ def are_least(behaviour, value):
 
 def factors(behaviour, generators, record):
     """For each of the generators its factors, delayed by 0, by 1 and so on, in the sum that is the record."""
-    check_behaviour(behaviour)
     if not are_generators(behaviour, generators):
         raise InvalidGenerators("these are not generators of the behaviour")
-    check_record(behaviour.modulus, len(behaviour), record)
     if record not in behaviour:
         raise InvalidRecord("the record is not finite in the behaviour")
     if not generators:

@@ -92,7 +92,6 @@ def beside_all(behaviours):
     """The behaviour of all rows that consist of one row of each behaviour of a tuple."""
     if not isinstance(behaviours, tuple) or not behaviours:
         raise InvalidBehaviour("there should be one or more behaviours")
-    check_behaviour(behaviours[0])
     for behaviour in behaviours:
         check_modulus_of(behaviours[0], behaviour)
     ends = tuple([end for behaviour in behaviours for end in behaviour.ends])

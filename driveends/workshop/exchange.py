@@ -1,8 +1,7 @@
 """What happens if a diagram is defined or exchanged: checks in their order, and the new state."""
 
-from driveends.diagrams.diagrams import Diagram
 from driveends.errors import Conflict, InvalidDiagram, TooLarge, UnknownName
-from driveends.workshop.expansion import chain_length, needing, plain_forms, uses_in
+from driveends.workshop.expansion import chain_length, needing, plain_diagrams, uses_in
 from driveends.workshop.states import Entry, State
 
 
@@ -42,11 +41,9 @@ def check_ends_of_runs(state, name, diagram):
 def new_entries(state, diagrams, names):
     """The entries with new ones for these names; an entry that would say the same stays."""
     entries = {name: state.entries[name] for name in state.entries}
-    forms = plain_forms(diagrams, names)
+    plain = plain_diagrams(diagrams, names)
     for name in names:
-        parts, ends = forms[name]
-        diagram = diagrams[name]
-        entry = Entry(diagram, Diagram.of(diagram.modulus, parts, ends))
+        entry = Entry(diagrams[name], plain[name])
         if name not in entries or entries[name] != entry or entries[name].plain != entry.plain:
             entries[name] = entry
     return entries

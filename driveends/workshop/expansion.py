@@ -89,24 +89,14 @@ def inner_lines(form):
     return [line for line in lines_in(parts) if line not in ends]
 
 
-def check_size(form):
-    """Raise TooLarge with the first limit that is exceeded by a plain form."""
-    parts, ends = form
-    delays = [part for part in parts if part.kind == "Delay"]
-    if len(parts) > Diagram.MAX_PARTS:
-        raise TooLarge(Diagram.MAX_PARTS)
-    if len(inner_lines(form)) + len(ends) > Diagram.MAX_LINES:
-        raise TooLarge(Diagram.MAX_LINES)
-    if len(delays) > Diagram.MAX_DELAYS:
-        raise TooLarge(Diagram.MAX_DELAYS)
-
-
-def plain_forms(diagrams, names):
-    """A dict of the plain forms of these diagrams, made and checked in this order."""
+def plain_diagrams(diagrams, names):
+    """A dict of these diagrams, expanded in this order; the first one that is too large raises TooLarge."""
     counts, forms = {}, {}
+    found = {}
     for name in names:
         # Forms with too many parts are not made: their number of parts can be enormous.
         if count_parts(diagrams, name, counts) > Diagram.MAX_PARTS:
             raise TooLarge(Diagram.MAX_PARTS)
-        check_size(plain_form(diagrams, name, forms))
-    return {name: forms[name] for name in names}
+        parts, ends = plain_form(diagrams, name, forms)
+        found[name] = Diagram.of(diagrams[name].modulus, parts, ends)
+    return found
